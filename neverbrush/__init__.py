@@ -1,0 +1,1 @@
+"""Neverbrush: roads through a city that never brush."""

@@ -1,0 +1,208 @@
+"""The form of the package: the rules of the language that can be seen, and the interface."""
+
+import ast
+import builtins
+import inspect
+import importlib
+import pathlib
+import re
+import unittest
+
+FOLDER = pathlib.Path(__file__).resolve().parent.parent / "neverbrush"
+FILES = sorted(FOLDER.glob("*.py"))
+TREES = {path.stem: ast.parse(path.read_text(encoding="ascii")) for path in FILES}
+
+BUILTINS = set("""len range enumerate zip min max sum abs sorted reversed int str bool list tuple dict set isinstance
+ord repr any all divmod LookupError ValueError""".split())
+METHODS = set("""append clear copy count endswith extend find get index insert isalnum isalpha isdigit islower isspace
+isupper items join keys ljust lower lstrip partition pop remove replace reverse rfind rjust rpartition rsplit rstrip
+setdefault split splitlines startswith strip update upper values zfill bit_length add discard""".split())
+BARRED = set("""register mro elements open input law version_info with_traceback add_note attrgetter breakpoint builtins
+compile copyright credits delattr dir eval exec exit gc globals help id importlib license locals methodcaller os quit
+super vars sys type typing enum Enum Flag Generic Protocol ABC namedtuple map next iter hash""".split())
+NODES = (ast.Yield, ast.YieldFrom, ast.GeneratorExp, ast.Global, ast.Nonlocal, ast.AsyncFunctionDef, ast.Await,
+         ast.Try, ast.With, ast.Match, ast.NamedExpr, ast.Starred, ast.Lambda, ast.Div, ast.Pow, ast.Mod, ast.Delete)
+
+INTERFACE = {
+    "errors": "NoCrossing(crossing) NoRoad(road) NoStretch(stretch) NothingDone() BadText(line) Broken(number) "
+              "CanNot() TooMany() Unfit()",
+    "signs": "words(text) text_of(words) number_of(word) word_of(number)",
+    "cities": "is_city(thing) how_many(city) streets_of(city,crossing) next_one(city,crossing,way) "
+              "ahead_one(city,crossing,side) beginnings(city) ends(city) links(city) by_links(many,east,south) "
+              "reached(city,crossing) parts(city)",
+    "floors": "of_cells(cells) of_points(points) rectangle(high,wide) ring(high,wide) line(word) line_of(city) "
+              "points_of(city) are_points(city,points)",
+    "roads": "is_road(city,thing) is_bent(city,road) passes(city,road) turns(city,road) road_of(city,table) "
+             "behind(city,road) roads(city) straight_roads(city) how_many_roads(city) by_bends(city) "
+             "road_at(city,number) road_number(city,road) through(city,crossing) longest(city)",
+    "stretches": "is_stretch(city,thing) crossings_of(city,stretch) sum_along(city,stretch,table) stretches(city) "
+                 "how_many_stretches(city) how_many_with(city,crossing) over_pieces(city,stretch) "
+                 "under_pieces(city,stretch) lies_over(city,stretch,other) joined(city,stretch,way,other) "
+                 "parted(city,stretch,number) goes(city,road,stretch) low_passes(city,road) high_passes(city,road)",
+    "brushing": "common_parts(city,road,other) meetings(city,road,other) brushes(city,road,other) "
+                "do_brush(city,road,other) crosses(city,road,other) passes_within(city,road,stretch) "
+                "how_many_go(city,stretch,word) brushed_by(city,road) how_many_brushes(city) some_brushing(city,road)",
+    "bags": "bag(city,table) is_bag(city,table,thing) is_some_bag(city,thing) table_of(city,bag) lot_of(city,table) "
+            "how_many_in(city,table) on_pieces(city,table) beginnings_of(city,table) "
+            "row_on(city,table,crossing,way) bag_of_sum(city,bag,other) bag_of_less(city,bag) "
+            "are_one_lot(city,table,other) why_not_one(city,table,other) is_why_not_one(city,table,other,thing)",
+}
+
+
+def functions(tree):
+    return [node for node in ast.walk(tree) if isinstance(node, ast.FunctionDef)]
+
+
+def imports(tree):
+    return [node for node in ast.walk(tree) if isinstance(node, (ast.Import, ast.ImportFrom))]
+
+
+def bound(node):
+    """All names that node binds: parameters, targets."""
+    found = {own.arg for own in ast.walk(node) if isinstance(own, ast.arg)}
+    return found | {own.id for own in ast.walk(node) if isinstance(own, ast.Name) and isinstance(own.ctx, ast.Store)}
+
+
+def defined(tree):
+    return {node.name for node in tree.body if isinstance(node, (ast.FunctionDef, ast.ClassDef))}
+
+
+class Form(unittest.TestCase):
+    def test_folder(self):
+        others = [path.name for path in FOLDER.iterdir() if path.suffix != ".py" and path.name != "__pycache__"]
+        self.assertEqual(others, [])
+        self.assertIn("__init__", TREES)
+
+    def test_sizes_and_signs(self):
+        for path in FILES:
+            rows = path.read_text(encoding="ascii").split("\n")
+            with self.subTest(path.name):
+                self.assertLessEqual(len(rows) - 1, 399)
+                self.assertLessEqual(max(len(row) for row in rows), 120)
+                self.assertTrue(all(32 <= ord(sign) <= 126 for row in rows for sign in row))
+                self.assertNotIn("_wall", path.read_text())
+        for name, tree in TREES.items():
+            for node in functions(tree):
+                with self.subTest(name, function=node.name):
+                    self.assertLessEqual(node.end_lineno - node.lineno + 1, 40)
+                    self.assertTrue(ast.get_docstring(node) or node.name == "__init__")
+                    self.assertEqual(node.decorator_list, [])
+
+    def test_imports(self):
+        edges = {}
+        for name, tree in TREES.items():
+            edges[name] = set()
+            for node in imports(tree):
+                with self.subTest(name, line=node.lineno):
+                    self.assertIsInstance(node, ast.ImportFrom)
+                    package, _, module = node.module.partition(".")
+                    self.assertEqual((package, node.level), ("neverbrush", 0))
+                    own = TREES[module]
+                    plain = {target.id for row in own.body if isinstance(row, ast.Assign) for target in row.targets}
+                    for alias in node.names:
+                        self.assertIsNone(alias.asname)
+                        self.assertIn(alias.name, defined(own) | plain)
+                    edges[name].add(module)
+        while edges:
+            free = [name for name in edges if not edges[name] & set(edges)]
+            self.assertTrue(free, "files import in a ring")
+            edges = {name: edges[name] for name in edges if name not in free}
+
+    def test_imports_are_used(self):
+        for name, tree in TREES.items():
+            used = {node.id for node in ast.walk(tree) if isinstance(node, ast.Name)}
+            for node in imports(tree):
+                for alias in node.names:
+                    with self.subTest(name, alias=alias.name):
+                        self.assertIn(alias.name, used)
+
+    def test_names(self):
+        for name, tree in TREES.items():
+            taken = {alias.name for node in imports(tree) for alias in node.names}
+            taken |= {node.name for node in ast.walk(tree) if isinstance(node, ast.ClassDef)}
+            for node in functions(tree):
+                with self.subTest(name, function=node.name):
+                    self.assertFalse(bound(node) & (taken | BARRED | set(dir(builtins))))
+                    self.assertNotIn(node.name, set(dir(builtins)) | BARRED)
+                    self.assertTrue(all(re.fullmatch("_|_?[A-Za-z][A-Za-z0-9_]*", own) for own in bound(node)))
+                    loads = [own.id for own in ast.walk(node) if isinstance(own, ast.Name)
+                             and isinstance(own.ctx, ast.Load)]
+                    self.assertNotIn("_", loads)
+            rows = [node for node in tree.body if isinstance(node, ast.Assign)]
+            names = [target.id for node in rows for target in node.targets]
+            self.assertEqual(len(names), len(set(names)))
+            self.assertFalse(set(names) & (set(dir(builtins)) | defined(tree) | taken))
+
+    def test_statements(self):
+        for name, tree in TREES.items():
+            for node in tree.body:
+                good = (ast.ImportFrom, ast.FunctionDef, ast.ClassDef, ast.Assign)
+                is_text = isinstance(node, ast.Expr) and isinstance(node.value, ast.Constant)
+                self.assertTrue(isinstance(node, good) or is_text)
+            for node in ast.walk(tree):
+                with self.subTest(name, line=getattr(node, "lineno", 0)):
+                    self.assertNotIsInstance(node, NODES)
+                    self.assertFalse(isinstance(node, ast.Constant) and isinstance(node.value, (float, bytes)))
+                    if isinstance(node, ast.Raise):
+                        self.assertIsInstance(node.exc, ast.Call)
+                    if isinstance(node, ast.Compare):
+                        for sign, other in zip(node.ops, node.comparators):
+                            if isinstance(sign, (ast.Is, ast.IsNot)):
+                                self.assertIsInstance(other, ast.Constant)
+            for node in functions(tree):
+                inner = [own for own in functions(node) if own is not node]
+                self.assertEqual(inner, [])
+
+    def test_calls(self):
+        for name, tree in TREES.items():
+            known = defined(tree) | {alias.name for node in imports(tree) for alias in node.names}
+            for node in ast.walk(tree):
+                if not isinstance(node, ast.Call):
+                    continue
+                with self.subTest(name, line=node.lineno):
+                    if isinstance(node.func, ast.Name):
+                        self.assertIn(node.func.id, known | BUILTINS)
+                    else:
+                        self.assertIn(node.func.attr, METHODS)
+                        self.assertEqual(node.keywords, [])
+
+    def test_no_sets_are_built(self):
+        for name, tree in TREES.items():
+            for node in ast.walk(tree):
+                with self.subTest(name, line=getattr(node, "lineno", 0)):
+                    self.assertNotIsInstance(node, (ast.Set, ast.SetComp))
+
+    def test_views_are_iterated_at_once(self):
+        views = {"zip", "enumerate", "reversed", "range"}
+        for name, tree in TREES.items():
+            heads = [node.iter for node in ast.walk(tree) if isinstance(node, (ast.For, ast.comprehension))]
+            heads += [own for node in ast.walk(tree) if isinstance(node, ast.Call) and isinstance(node.func, ast.Name)
+                      and node.func.id in {"list", "tuple", "reversed"} for own in node.args]
+            for node in ast.walk(tree):
+                if isinstance(node, ast.Call) and isinstance(node.func, ast.Name) and node.func.id in views:
+                    with self.subTest(name, line=node.lineno):
+                        self.assertTrue(any(node is own for own in heads))
+
+
+class Interface(unittest.TestCase):
+    def test_each_name_stands_in_its_file_with_its_arguments(self):
+        for module, told in INTERFACE.items():
+            own = importlib.import_module("neverbrush." + module)
+            for name, arguments in re.findall(r"(\w+)\(([\w,]*)\)", told):
+                with self.subTest(module, name=name):
+                    self.assertIn(name, defined(TREES[module]))
+                    self.assertEqual(getattr(own, name).__module__, "neverbrush." + module)
+                    wanted = [word for word in arguments.split(",") if word]
+                    if module == "errors":
+                        kind = getattr(own, name)
+                        made = kind(*range(len(wanted)))
+                        self.assertEqual(list(vars(made)), wanted)
+                    else:
+                        self.assertEqual(list(inspect.signature(getattr(own, name)).parameters), wanted)
+
+    def test_package_binds_nothing_else(self):
+        self.assertEqual([type(node) for node in TREES["__init__"].body], [ast.Expr])
+
+
+if __name__ == "__main__":
+    unittest.main()
