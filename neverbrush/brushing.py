@@ -28,9 +28,11 @@ def meetings(city, road, other):
 
 
 def brushes(city, road, other):
-    """The set of the pairs (stretch, word) along which road and other brush."""
-    rows = meetings(city, road, other)
-    return tuple(sorted([(stretch, word) for stretch, word in rows if word in BRUSHING]))
+    """The set of the pairs (stretch, word) along which road and other brush.
+
+    Ways lead to greater crossings, so the meetings, one behind the other, ascend.
+    """
+    return tuple([pair for pair in meetings(city, road, other) if pair[1] in BRUSHING])
 
 
 def do_brush(city, road, other):
@@ -42,8 +44,7 @@ def do_brush(city, road, other):
 
 def crosses(city, road, other):
     """The set of the STRETCHES along which road and other cross."""
-    rows = meetings(city, road, other)
-    return tuple(sorted([stretch for stretch, word in rows if word == "cross"]))
+    return tuple([stretch for stretch, word in meetings(city, road, other) if word == "cross"])
 
 
 def passes_within(city, road, stretch):

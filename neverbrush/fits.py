@@ -29,7 +29,7 @@ def fit_from(value, least):
 
 def fit_word(value, known):
     """The string value, one of the tuple known."""
-    if not isinstance(value, str) or value not in known:
+    if value not in known:
         raise Unfit()
     return value
 
@@ -83,7 +83,7 @@ def road_from(plan, value):
     if road is None:
         return None
     side, first, moves = road
-    if not isinstance(side, str) or side not in SIDES or not is_crossing(plan, first):
+    if side not in SIDES or not is_crossing(plan, first):
         return None
     if plan.aheads[side][first] is not None or not isinstance(moves, str):
         return None

@@ -9,14 +9,14 @@ LETTERS = "ESB0"
 
 
 def fit_floor(value):
-    """The set, not (), of the pairs (down, across) of numbers from 0 that value is."""
+    """The list, not empty, of the pairs (down, across) of numbers from 0 that value is the set of."""
     rows = as_row(value)
     if not rows:
         raise Unfit()
     pairs = [as_row_of(own, 2) for own in rows]
     if not all([is_place(pair) for pair in pairs]) or not is_rising(pairs):
         raise Unfit()
-    return tuple(pairs)
+    return pairs
 
 
 def is_place(pair):

@@ -6,7 +6,7 @@ a crossing are those that come from W, behind them those from N; the first ones 
 
 from neverbrush.errors import Unfit
 from neverbrush.fits import fit_table, road_from
-from neverbrush.kinds import as_row, as_row_of, is_number, is_rising
+from neverbrush.kinds import as_row, as_row_of, is_number
 from neverbrush.plans import SIDES, WAYS, side_behind
 from neverbrush.routes import turns_of
 
@@ -48,10 +48,10 @@ def bag_of(plan, table):
         row = []
         for side, many in (("W", pieces[crossing][0]), ("N", pieces[crossing][1])):
             if plan.aheads[side][crossing] is None:
-                coming[side][crossing] = begun(side, crossing, many)
+                coming[side][crossing] = [((side, crossing, ""), many)]
             row = row + coming[side][crossing]
         for way, part in zip(WAYS, row_split(row, pieces[crossing][2])):
-            gone = [((side, first, moves + way), many) for (side, first, moves), many in part]
+            gone = [((begun, first, moves + way), often) for (begun, first, moves), often in part]
             there = plan.nexts[way][crossing]
             if there is None:
                 done.extend(gone)
@@ -60,13 +60,8 @@ def bag_of(plan, table):
     return tuple(sorted(done))
 
 
-def begun(side, crossing, many):
-    """The row of those that begin from side at crossing."""
-    return [((side, crossing, ""), many)] if many > 0 else []
-
-
 def row_split(row, many):
-    """The pair of the first many of a row of pairs (road, many), and of the others."""
+    """The pair of the first many of a row of pairs (road, many), and of the others; none stands there 0 times."""
     first, others, left = [], [], many
     for road, often in row:
         taken = min(often, left)
@@ -88,9 +83,9 @@ def table_by(plan, bag):
 
 
 def bag_pair_from(plan, value):
-    """The pair (road, many) in tuples, many from 1, None if value is none."""
+    """The pair (road, many) in tuples, a ROAD and a number, None if value is none."""
     pair = as_row_of(value, 2)
-    if pair is None or not is_number(pair[1]) or pair[1] < 1:
+    if pair is None or not is_number(pair[1]):
         return None
     road = road_from(plan, pair[0])
     return None if road is None else (road, pair[1])
@@ -106,7 +101,7 @@ def bag_from(plan, value):
     if rows is None or len(rows) > plan.size:
         return None
     pairs = [bag_pair_from(plan, own) for own in rows]
-    if any([pair is None for pair in pairs]) or not is_rising(pairs):
+    if any([pair is None for pair in pairs]):
         return None
     found = tuple(pairs)
     return found if bag_of(plan, table_by(plan, found)) == found else None

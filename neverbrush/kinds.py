@@ -40,5 +40,5 @@ def is_just(thing, value):
             return False
         return all([is_just(thing[k], value[k]) for k in range(len(value))])
     if isinstance(value, str):
-        return isinstance(thing, str) and thing == value
+        return thing == value
     return is_number(thing) and thing == value

@@ -13,12 +13,15 @@ def crossings_along(plan, stretch):
 
 
 def parts_between(plan, stretch, come, gone):
-    """The set of the parts of stretch that begin with it or are come to by one move, end or are left likewise."""
+    """The set of the parts of stretch that begin with it or are come to by one move, end or are left likewise.
+
+    Ways lead to greater crossings, so the parts ascend as they are found.
+    """
     crossings, moves = crossings_along(plan, stretch), stretch[1]
     last = len(moves)
     starts = [k for k in range(last + 1) if k == 0 or moves[k - 1] == come]
     stops = [k for k in range(last + 1) if k == last or moves[k] == gone]
-    return tuple(sorted([(crossings[k], moves[k:n]) for k in starts for n in stops if k <= n]))
+    return tuple([(crossings[k], moves[k:n]) for k in starts for n in stops if k <= n])
 
 
 def over_of(plan, stretch):
@@ -63,7 +66,7 @@ def passes_by_word(passes, side, way):
     moves = "".join([own[2] for own in passes])
     starts = [k for k in range(len(passes)) if passes[k][1] == side]
     stops = [k for k in range(len(passes)) if passes[k][2] == way]
-    return tuple(sorted([(passes[k][0], moves[k:n]) for k in starts for n in stops if k <= n]))
+    return tuple([(passes[k][0], moves[k:n]) for k in starts for n in stops if k <= n])
 
 
 def low_of(passes):
