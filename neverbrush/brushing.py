@@ -5,7 +5,7 @@ from neverbrush.fits import fit_plan, fit_road, fit_stretch, fit_word
 from neverbrush.pieces import crossings_along, going_along, high_of, is_brushing, low_of, over_of
 from neverbrush.pieces import runs_together, stretch_of_run, under_of, word_of_run
 from neverbrush.plans import SIDES, WAYS, beginnings_on, side_behind
-from neverbrush.routes import passes_of, turn_of, ways_on, ways_to
+from neverbrush.routes import passes_of, turn_of, turning_once, ways_on, ways_to
 
 BRUSHING = ("low", "high")
 
@@ -154,15 +154,3 @@ def some_brushing(city, road):
         if turn != 0:
             return turning_once(plan, crossing, "N" if side == "W" else "W")
     raise CanNot()
-
-
-def turning_once(plan, crossing, side):
-    """The ROAD that comes from side to crossing and turns there alone."""
-    first, ahead = crossing, 0
-    while plan.aheads[side][first] is not None:
-        first, ahead = plan.aheads[side][first], ahead + 1
-    way, turned = ("S", "E") if side == "N" else ("E", "S")
-    moves, at = way * ahead + turned, plan.nexts[turned][crossing]
-    while at is not None:
-        moves, at = moves + turned, plan.nexts[turned][at]
-    return (side, first, moves)

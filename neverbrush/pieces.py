@@ -1,6 +1,8 @@
 """STRETCHES on a plan, looked at already: their parts, how ROADS go along them, how two ROADS meet."""
 
+from neverbrush.errors import TooMany
 from neverbrush.plans import WAYS
+from neverbrush.routes import MOST_LISTED
 
 
 def crossings_along(plan, stretch):
@@ -136,3 +138,16 @@ def many_from(plan):
             if there is not None:
                 many[crossing] += many[there]
     return many
+
+
+def check_few_stretches(plan):
+    """TooMany() if there are more STRETCHES than are listed."""
+    if sum(many_from(plan)) > MOST_LISTED:
+        raise TooMany()
+
+
+def all_stretches(plan):
+    """The ascending list of all STRETCHES; TooMany() if there are more than are listed."""
+    check_few_stretches(plan)
+    tails = tails_from(plan)
+    return [(first, moves) for first in range(plan.size) for moves in tails[first]]

@@ -3,8 +3,8 @@
 from neverbrush.errors import CanNot, TooMany
 from neverbrush.fits import fit_crossing, fit_number, fit_plan, fit_road, fit_table, road_from
 from neverbrush.plans import SIDES, beginnings_on, side_behind, straight_on
-from neverbrush.routes import MOST_LISTED, bent_road, how_many_bent, is_turning, number_of_bent
-from neverbrush.routes import passes_of, straight_from, turns_of, ways_on, ways_to
+from neverbrush.routes import MOST_LISTED, bent_road, come_straight, how_many_bent, is_turning
+from neverbrush.routes import number_of_bent, passes_of, straight_from, turns_of, ways_on, ways_to
 
 
 def is_road(city, thing):
@@ -46,9 +46,7 @@ def road_of(city, table):
 def road_by(plan, table, bend):
     """The ROAD that first turns at bend, then wherever table is not 0."""
     side = "W" if table[bend] > 0 else "N"
-    first = bend
-    while plan.aheads[side][first] is not None:
-        first = plan.aheads[side][first]
+    first, _ = come_straight(plan, side, bend)
     at, come, moves = first, side, ""
     while at is not None:
         way = straight_on(come)

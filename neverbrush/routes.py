@@ -36,13 +36,31 @@ def is_turning(road):
     return any([way != straight_on(side) for way in moves])
 
 
-def straight_from(plan, side, first):
-    """The straight ROAD that begins from side at first."""
-    way = straight_on(side)
-    moves, at = "", first
+def come_straight(plan, side, crossing):
+    """The pair of where one begins who comes straight on from side to crossing, and of the moves up to there."""
+    first, moves, way = crossing, "", straight_on(side)
+    while plan.aheads[side][first] is not None:
+        first, moves = plan.aheads[side][first], moves + way
+    return (first, moves)
+
+
+def gone_straight(plan, way, crossing):
+    """The moves of one who leaves crossing by way and goes straight on, out of the city."""
+    moves, at = way, plan.nexts[way][crossing]
     while at is not None:
         moves, at = moves + way, plan.nexts[way][at]
-    return (side, first, moves)
+    return moves
+
+
+def straight_from(plan, side, first):
+    """The straight ROAD that begins from side at first."""
+    return (side, first, gone_straight(plan, straight_on(side), first))
+
+
+def turning_once(plan, crossing, side):
+    """The ROAD that comes from side to crossing and turns there alone."""
+    first, moves = come_straight(plan, side, crossing)
+    return (side, first, moves + gone_straight(plan, "S" if side == "W" else "E", crossing))
 
 
 def ways_on(plan):

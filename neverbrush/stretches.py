@@ -1,12 +1,12 @@
 """Stretches of a city: told, listed, counted, parted; how roads go along them."""
 
-from neverbrush.errors import CanNot, TooMany
+from neverbrush.errors import CanNot
 from neverbrush.fits import fit_crossing, fit_number, fit_plan, fit_road, fit_stretch, fit_table
 from neverbrush.fits import fit_way, stretch_from
-from neverbrush.pieces import crossings_along, going_along, has_part_over, high_of, low_of, many_from
-from neverbrush.pieces import over_of, tails_from, under_of
+from neverbrush.pieces import all_stretches, crossings_along, going_along, has_part_over, high_of, low_of
+from neverbrush.pieces import many_from, over_of, under_of
 from neverbrush.plans import SIDES
-from neverbrush.routes import MOST_LISTED, passes_of
+from neverbrush.routes import passes_of
 
 
 def is_stretch(city, thing):
@@ -31,11 +31,7 @@ def sum_along(city, stretch, table):
 
 def stretches(city):
     """The ascending list of all STRETCHES; TooMany() if there are more than are listed."""
-    plan = fit_plan(city)
-    if sum(many_from(plan)) > MOST_LISTED:
-        raise TooMany()
-    tails = tails_from(plan)
-    return [(first, moves) for first in range(plan.size) for moves in tails[first]]
+    return all_stretches(fit_plan(city))
 
 
 def how_many_stretches(city):

@@ -4,8 +4,9 @@ A call is (function, arguments, late): arguments a list of (name, kind, value) i
 values that are of the right kind, but lead to an error behind all Unfit().
 """
 
-from neverbrush import bags, brushing, cities, floors, roads, signs, stretches
-from tests.made import ALLEY, SQUARE
+from neverbrush import bags, brushing, cities, climbs, closed, counts, exchange, floors, forms, lots, roads, seams
+from neverbrush import signs, stretches, walks
+from tests.made import ALLEY, DOUBLED_60, SQUARE, TWIN
 
 NUMBERS = (None, True, False, "1", "", (1,), [1], 1.0, {})
 WAYS = (None, True, 0, "", "W", "N", "e", "s", "ES", "EE", ("E",), ["E"], {})
@@ -61,12 +62,51 @@ LINKS = (
     ((0, 4),), ((4, 5),), ((0, True),), ((False, 1),), ((0, None),), ((0, "1"),), ((0, 1.0),),
     ((1, 2), (0, 1)), ((0, 1), (0, 1)), ((0, 1), None), (((0, 1),),),
 )
+ROAD_SETS = (
+    None, True, 5, "", "road", {}, ((),), ("W", 0, "SS"), (("W", 0, "EE"),), (("W", 0, "S"),), (("W", 9, "S"),),
+    ((("W", 0, "SS"), 1),), (("W", 2, "S"), ("W", 0, "SS")), (("W", 0, "SS"), ("W", 0, "SS")),
+    (("W", 0, "SS"), None), (("W", 0, "SS"), 1), (("W", 0, "EE"), ("W", 0, "SS")), (("W", True, "SS"),),
+    (("N", 0, "SS"), ("W", 0, "SS")), ((("W", 0, "SS"),),), (("W", 0, ("S", "S")),),
+)
+LOTS = ROAD_SETS + (
+    (("N", 0, "EE"), ("W", 0, "SS")), (("N", 0, "ESS"), ("W", 0, "SS")), (("N", 0, "ESE"), ("W", 0, "SES")),
+    (("N", 1, "E"), ("W", 0, "SS"), ("W", 2, "ES"), ("W", 2, "S"), ("W", 2, "S")),
+    (("N", 0, "EE"), ("N", 0, "SEE"), ("N", 1, "E"), ("N", 1, "SE"), ("W", 0, "SES")),
+)
+FULLS = LOTS + (
+    (), (("W", 0, "SS"),), (("N", 1, "E"), ("W", 0, "SS"), ("W", 2, "ES")),
+    (("W", 0, "SS"), ("W", 2, "ES"), ("W", 2, "S"), ("N", 1, "E")),
+    (("N", 0, "EE"), ("W", 0, "SS"), ("W", 2, "ES"), ("W", 2, "S")),
+)
+WALLS = LOTS + (
+    (), (("W", 0, "SS"),), (("W", 0, "SS"), ("W", 2, "ES")),
+    (("N", 1, "E"), ("W", 0, "SS"), ("W", 2, "ES"), ("W", 2, "S")),
+)
+MOMENTS = (
+    None, True, 0, "", "01", (), [], {}, (1,), (1, 2, 3), (0, 0), (1, 0), (-1, 2), (3, 2), (0, -1), (1, -2),
+    (True, 2), (1, True), (False, 2), (None, 2), (1, None), ("1", "2"), (0.0, 1), (0, 1.0), ((0, 1),), ((0,), (1,)),
+)
+STRETCH_ROWS = (
+    None, True, 0, "", "0E", {}, ((),), (0, ""), (0, "E"), ((0, "EE"),), ((4, ""),), ((-1, ""),), ((True, ""),),
+    ((0, None),), ((0, ("E",)),), ((0, ""), None), ((0, ""), 1), (((0, ""),),), ((0,),), ((0, "", ""),),
+    ((0, ""), (1, "E")), (("0", ""),), ((0.0, ""),),
+)
+STRETCH_SETS = STRETCH_ROWS + (
+    ((1, ""), (0, "")), ((0, "E"), (0, "")), ((0, ""), (0, "")), ((3, ""), (0, ""), (1, "")),
+)
+FIGURES = (
+    None, True, 5, "", "12", {}, (10,), (-1,), (1, 10), (True,), (1, False), (None,), ("1",), (1.0,), ((1,),), ([],),
+    (0,) * 31, (1, 2, 3, -1), (10 ** 30,),
+)
+WIDES = NUMBERS + (0, -1, 31, 10 ** 9)
+WIDES_BY_SEAMS = WIDES + (6, 30)
 GOINGS = (None, True, 0, "", "Low", "across", "along", "cross", "lowhigh", ("low",), ["high"], {})
 
 WRONG = {
     "number": NUMBERS, "way": WAYS, "side": SIDES, "city": CITIES, "road": ROADS, "stretch": STRETCHES,
     "table": TABLES, "bag": BAGS, "letters": WORDS, "floor": FLOORS, "count": COUNTS, "links": LINKS,
-    "going": GOINGS,
+    "going": GOINGS, "roads": ROAD_SETS, "lot": LOTS, "full": FULLS, "wall": WALLS, "moment": MOMENTS,
+    "stretches": STRETCH_SETS, "climb": STRETCH_ROWS, "figures": FIGURES, "wide": WIDES, "less wide": WIDES_BY_SEAMS,
 }
 
 TOWN = ("city", "city", SQUARE)
@@ -78,6 +118,18 @@ ALONG = ("stretch", "stretch", (0, "ES"))
 TABLE = ("table", "table", (2, -1, 0, 1))
 BAG = ("bag", "bag", ((("N", 1, "E"), 5), (("N", 1, "SE"), 2), (("W", 0, "SS"), 3), (("W", 2, "S"), 4)))
 OTHER_BAG = ("other", "bag", ((("N", 0, "EE"), 3), (("W", 2, "S"), 1)))
+OTHER_TABLE = ("other", "table", (-1, 1, 3, 1))
+FOUR = (("N", 1, "E"), ("W", 0, "SS"), ("W", 2, "ES"), ("W", 2, "S"))
+NEAR = (("N", 1, "E"), ("N", 1, "SE"), ("W", 0, "SS"), ("W", 2, "S"))
+LEAST = (("W", 0, "ESS"), ("W", 0, "SS"), ("W", 2, "ES"), ("W", 2, "S"))
+MOST = (("N", 0, "EE"), ("N", 0, "SEE"), ("N", 1, "E"), ("N", 1, "SE"))
+LOT = ("lot", "lot", (("N", 0, "SES"), ("W", 0, "ESS")))
+FULL = ("lot", "full", FOUR)
+OTHER_FULL = ("other", "full", MOST)
+HELD = ("bag", "bag", ((("N", 1, "SE"), 1), (("W", 0, "SS"), 1)))
+APART = ("stretches", "stretches", ((0, ""), (3, "")))
+OVER = ((0, ""), (0, "S"))
+TOO_MANY = {"city": DOUBLED_60}
 CELLS = ((0, 0), (0, 1), (0, 3), (1, 1), (1, 3))
 
 CALLS = [
@@ -148,6 +200,91 @@ CALLS = [
     (bags.bag_of_less, [TOWN, BAG], {}),
     (bags.are_one_lot, [TOWN, TABLE, ("other", "table", (-2, 1, 0, -1))], {}),
     (bags.why_not_one, [TOWN, TABLE, ("other", "table", (-2, 1, 0, -1))], {"other": (0, 0, 0, 0)}),
+    (lots.brushing_pair, [TOWN, ("roads", "roads", (("N", 0, "ESE"), ("W", 0, "ESS"), ("W", 0, "SES")))],
+     {"roads": LEAST}),
+    (lots.barred_by, [TOWN, ("lot", "lot", LEAST), ("road", "road", ("N", 0, "ESS"))], {}),
+    (lots.put_to, [TOWN, LOT, ("road", "road", ("W", 0, "SEE"))], {"road": ("W", 0, "EE")}),
+    (lots.goes_with, [TOWN, LOT], {}),
+    (lots.least_lot, [TOWN], {}),
+    (lots.greatest_lot, [TOWN], {}),
+    (lots.finished, [TOWN, LOT, ("word", "going", "high")], {}),
+    (lots.full_lots, [TOWN], TOO_MANY),
+    (lots.how_many_full, [TOWN], TOO_MANY),
+    (lots.lots_by_size, [TOWN], TOO_MANY),
+    (forms.forms, [TOWN, FULL], {}),
+    (forms.form_of, [TOWN, FULL, ("road", "road", FOUR[1])], {"road": ("W", 0, "EE")}),
+    (forms.counts_in, [TOWN, FULL, TABLE], {}),
+    (forms.told_back, [TOWN, FULL, ("counts", "table", (5, 3, -2, 4))], {}),
+    (forms.stands, [TOWN, FULL, TABLE], {}),
+    (forms.why_out, [TOWN, FULL, ("table", "table", (3, -5, 4, -2))], {"table": (0, 0, 0, 0)}),
+    (forms.inner_table, [TOWN, FULL], {}),
+    (forms.low_roads, [TOWN, FULL], {}),
+    (forms.high_roads, [TOWN, FULL], {}),
+    (forms.home, [TOWN, TABLE], {}),
+    (exchange.newcomer, [TOWN, FULL, ("road", "road", FOUR[2])], {"road": ("W", 0, "EE")}),
+    (exchange.exchanged, [TOWN, FULL, ("road", "road", FOUR[2])], {"road": ("W", 0, "ESS")}),
+    (exchange.exchange_of, [TOWN, FULL, ("road", "road", FOUR[0])], {"road": ("N", 0, "EE")}),
+    (exchange.exchanges, [TOWN, FULL], {}),
+    (exchange.exchange_to, [TOWN, ("lot", "full", LEAST), ("other", "full", FOUR)], {"other": MOST}),
+    (exchange.resolved, [TOWN, ("road", "road", ("W", 2, "ES")), ("other", "road", ("W", 0, "ESE")),
+                         ("stretch", "stretch", (3, ""))], {"stretch": (1, "")}),
+    (exchange.wall_bag, [TOWN, FULL, ("road", "road", FOUR[3])], {"road": ("W", 0, "ESS")}),
+    (exchange.sides, [TOWN, ("lot", "wall", FOUR[1:])], {}),
+    (walks.moments, [TOWN, TABLE, OTHER_TABLE], {}),
+    (walks.lots_between, [TOWN, TABLE, OTHER_TABLE], {}),
+    (walks.bag_then, [TOWN, TABLE, OTHER_TABLE, ("moment", "moment", (2, 4))], {}),
+    (walks.put, [TOWN, HELD, ("crossing", "number", 3), ("number", "number", 2)], FAR),
+    (walks.gone_and_come, [TOWN, HELD, ("crossing", "number", 3), ("number", "number", 2)], FAR),
+    (walks.first_put, [TOWN, HELD, ("crossing", "number", 3), ("number", "number", 2)], FAR),
+    (walks.how_far, [TOWN, FULL, OTHER_FULL], {}),
+    (walks.exchanges_to, [TOWN, FULL, OTHER_FULL], {}),
+    (walks.by_far, [TOWN, FULL], {}),
+    (closed.under, [TOWN, FULL], {}),
+    (closed.above, [TOWN, FULL], {}),
+    (closed.is_under, [TOWN, FULL, ALONG], {}),
+    (closed.is_above, [TOWN, FULL, ALONG], {}),
+    (closed.why_not_under, [TOWN, FULL, ("stretch", "stretch", (2, "E"))], {"stretch": (1, "")}),
+    (closed.why_not_above, [TOWN, FULL, ("stretch", "stretch", (0, "E"))], {"stretch": (2, "E")}),
+    (closed.parting, [TOWN, FULL, ALONG], {}),
+    (closed.why_not_closed, [TOWN, ("stretches", "stretches", ((0, "ES"),))], {"stretches": ()}),
+    (closed.closure, [TOWN, ("stretches", "stretches", ((0, "ES"), (2, "")))], {}),
+    (closed.is_in_closure, [TOWN, APART, ALONG], {}),
+    (closed.how_joined, [TOWN, ("stretches", "stretches", ((0, "ES"), (2, ""))), ("stretch", "stretch", (0, "SE"))],
+     {"stretch": (1, "")}),
+    (closed.lot_of_closed, [TOWN, APART], {"stretches": ((0, "E"),)}),
+    (closed.closed_sets, [TOWN], TOO_MANY),
+    (seams.seams, [TOWN, FULL], {}),
+    (seams.rises, [TOWN, FULL], {}),
+    (seams.unfit_pair, [TOWN, ("stretches", "stretches", ((0, "ES"), (0, "SE"), (3, "")))], {"stretches": ()}),
+    (seams.why_over, [TOWN, ALONG, ("other", "stretch", (0, "SE"))], {}),
+    (seams.may_join, [TOWN, APART], {"stretches": OVER}),
+    (seams.lot_of_seams, [TOWN, APART], {"stretches": OVER}),
+    (seams.lot_of_rises, [TOWN, APART], {"stretches": OVER}),
+    (seams.sent_on, [TOWN, FULL], {}),
+    (seams.sent_back, [TOWN, FULL], {}),
+    (seams.ring_of, [TOWN, FULL], {}),
+    (seams.times_sent, [TOWN, ("lot", "full", LEAST), ("other", "full", MOST)], {"other": FOUR}),
+    (seams.fitting_sets, [TOWN], TOO_MANY),
+    (climbs.led_up, [TOWN, FULL, ("stretch", "stretch", (0, ""))], {"stretch": (1, "")}),
+    (climbs.led_down, [TOWN, FULL, ("stretch", "stretch", (1, ""))], {"stretch": (0, "")}),
+    (climbs.climbed, [TOWN, ("lot", "full", LEAST), ("climb", "climb", ((1, ""), (0, "")))],
+     {"climb": ((1, ""), (1, ""))}),
+    (climbs.is_below, [TOWN, FULL, OTHER_FULL], {}),
+    (climbs.why_not_below, [TOWN, FULL, ("other", "full", LEAST)], {"other": FOUR}),
+    (climbs.climb, [TOWN, FULL, OTHER_FULL], {"other": LEAST}),
+    (climbs.meet, [TOWN, FULL, OTHER_FULL], {}),
+    (climbs.join, [TOWN, FULL, ("other", "full", LEAST)], {}),
+    (climbs.over_ring, [("city", "city", TWIN)], {"city": SQUARE}),
+    (climbs.climb_lengths, [TOWN, FULL, OTHER_FULL], {"other": LEAST}),
+    (climbs.longest_climb, [TOWN], TOO_MANY),
+    (counts.by_seams, [TOWN], TOO_MANY),
+    (counts.roads_by_lots, [TOWN], TOO_MANY),
+    (counts.seams_by_lots, [TOWN], TOO_MANY),
+    (counts.numbered_lot, [TOWN, ("number", "number", 7)], {"number": 42}),
+    (counts.lot_number, [TOWN, FULL], {}),
+    (counts.drawn, [TOWN, ("figures", "figures", (5, 3))], {}),
+    (counts.rectangle_lots, [("high", "wide", 2), ("wide", "wide", 30)], {}),
+    (counts.rectangle_seams, [("high", "less wide", 2), ("wide", "less wide", 5)], {}),
 ]
 
 # The last argument of each of these is a thing: a good one, and what tells False.
@@ -158,6 +295,18 @@ THINGS = [
     (bags.is_bag, [TOWN, TABLE], ((("N", 1, "E"), 1), (("W", 0, "SS"), 2), (("W", 2, "ES"), 1))),
     (bags.is_some_bag, [TOWN], ((("N", 1, "E"), 5), (("N", 1, "SE"), 2), (("W", 0, "SS"), 3), (("W", 2, "S"), 4))),
     (bags.is_why_not_one, [TOWN, TABLE, ("other", "table", (-2, 1, 0, -1))], (("W", 0, "SS"), ("N", 0, "EE"))),
+    (lots.is_lot, [TOWN], LOT[2]),
+    (lots.is_full, [TOWN], FOUR),
+    (forms.is_forms, [TOWN, FULL], (((1, ""), -1), ((0, ""), 1), ((3, ""), 1), ((2, ""), 1))),
+    (exchange.is_exchange, [TOWN, ("lot", "full", LEAST)], (("W", 2, "ES"), ("W", 0, "ESE"), (3, ""))),
+    (exchange.is_wall, [TOWN], FOUR[1:]),
+    (walks.is_row, [TOWN, ("lot", "full", LEAST), ("other", "full", FOUR)],
+     ((("W", 0, "ESS"), ("N", 1, "E"), (1, "")),)),
+    (closed.is_closed, [TOWN], ((0, ""), (3, ""))),
+    (seams.is_fitting, [TOWN], ((0, ""), (3, ""))),
+    (climbs.is_why_not_below, [TOWN, FULL, ("other", "full", LEAST)], (1, "")),
+    (climbs.is_climb, [TOWN, ("lot", "full", LEAST), OTHER_FULL], ((1, ""), (0, ""), (3, ""), (2, ""))),
+    (climbs.is_over_ring, [("city", "city", TWIN)], ((0, ""), (0, "S"), (0, "E"))),
 ]
 
 TEXTS = [

@@ -8,6 +8,9 @@ from tests.calls import CALLS, TEXTS, THINGS, WRONG
 from tests.made import ODD_THINGS, deep, deep_list, listed, listed_below
 
 
+GOOD_ODD_THINGS = (("is_stretch", (0, "")), ("is_some_bag", ()), ("is_lot", ()), ("is_closed", ()), ("is_fitting", ()))
+
+
 def values(arguments):
     return [value for _, _, value in arguments]
 
@@ -159,7 +162,7 @@ class OddThings(unittest.TestCase):
     def test_any_odd_thing_is_told_true_or_false(self):
         for function, arguments, good in THINGS:
             for thing in ODD_THINGS + (listed(good), good + (0,), (good,), [good]):
-                is_good = (function.__name__, thing) in (("is_stretch", (0, "")), ("is_some_bag", ()))
+                is_good = (function.__name__, thing) in GOOD_ODD_THINGS
                 with self.subTest(function.__name__, thing=str(thing)[:80]):
                     self.assertIs(function(*values(arguments), thing), is_good)
 

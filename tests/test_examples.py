@@ -40,7 +40,7 @@ class Examples(unittest.TestCase):
                 with self.subTest(promise=promise, typed=typed):
                     wanted = answered if answered.startswith("raises ") else repr(eval(answered))
                     self.assertEqual(answer(typed, names), wanted)
-        self.assertEqual(asked, 65)
+        self.assertEqual(asked, 133)
 
 
 if __name__ == "__main__":
