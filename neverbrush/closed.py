@@ -47,21 +47,23 @@ def why_not_under(city, lot, stretch):
     """An OVER-PIECE of stretch and a ROAD of lot that goes low along it; CanNot() if there is none."""
     plan = fit_plan(city)
     own = fit_full(plan, lot)
-    known = {part: True for part in over_of(plan, fit_stretch(plan, stretch))}
-    for road in own:
-        for part in low_of(passes_of(plan, road)):
-            if part in known:
-                return (part, road)
-    raise CanNot()
+    pieces = over_of(plan, fit_stretch(plan, stretch))
+    return piece_and_road(pieces, [(road, low_of(passes_of(plan, road))) for road in own])
 
 
 def why_not_above(city, lot, stretch):
     """An UNDER-PIECE of stretch and a ROAD of lot that goes high along it; CanNot() if there is none."""
     plan = fit_plan(city)
     own = fit_full(plan, lot)
-    known = {part: True for part in under_of(plan, fit_stretch(plan, stretch))}
-    for road in own:
-        for part in high_of(passes_of(plan, road)):
+    pieces = under_of(plan, fit_stretch(plan, stretch))
+    return piece_and_road(pieces, [(road, high_of(passes_of(plan, road))) for road in own])
+
+
+def piece_and_road(pieces, rows):
+    """One of pieces and a ROAD that has it among its parts, as pairs (road, parts) tell; CanNot() if none has."""
+    known = {part: True for part in pieces}
+    for road, parts in rows:
+        for part in parts:
             if part in known:
                 return (part, road)
     raise CanNot()

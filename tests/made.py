@@ -1,7 +1,6 @@
 """Made inputs, by counting: cities, words, tables, odd values, lists for tuples."""
 
-from neverbrush.cities import by_links
-from neverbrush.floors import line
+from neverbrush.floors import line, rectangle
 
 SQUARE = (((0, 1), (2, 3)), ((0, 2), (1, 3)))
 ALLEY = (((0, 1, 2),), ((0,), (1,), (2,)))
@@ -82,6 +81,18 @@ def made_table(figures, many, size=3):
 def parted_line(lengths):
     """Lines doubled throughout, of these lengths, beside one another."""
     return line("0".join("B" * (many - 1) for many in lengths))
+
+
+# CITIES of 60 crossings.
+SIXTIES = [DOUBLED_60, rectangle(6, 10), line("E" * 59), line("S" * 59), line("0" * 59), line("BS0E" * 14 + "BBB")]
+
+# CITIES with just so many bent ROADS, STRETCHES, FULL LOTS.
+ROADS_2000 = parted_line([9, 8, 7, 6, 5, 3, 2, 2])
+ROADS_2001 = line("0".join(["B" * 8, "B" * 7, "B" * 6, "B" * 5, "B" * 4, "B" * 2, "B", "E", ""]))
+STRETCHES_2000 = parted_line([9, 8, 7, 6, 5, 5, 1, 1, 1, 1])
+STRETCHES_2001 = parted_line([9, 8, 7, 6, 5, 5, 1, 1, 1, 1, 1])
+LOTS_2000 = line("E0E0E0000")
+LOTS_2016 = line("BE0EE000")
 
 
 def listed(value):

@@ -33,6 +33,8 @@ class Town:
         self.stretches = plain.all_stretches(city)
         self.over = {own: plain.over_pieces(city, own) for own in self.stretches}
         self.under = {own: plain.under_pieces(city, own) for own in self.stretches}
+        self.overs = {(own, other) for own in self.stretches for other in self.stretches
+                      if set(self.over[own]) & set(self.under[other])}
         self.words = {road: plain.parts_of_road(city, road) for road in self.roads}
         self.turns = {road: plain.turns(city, road) for road in self.roads}
         self.unders = {lot: self.under_of(lot) for lot in self.fulls}
@@ -114,10 +116,10 @@ class Town:
         return found
 
     def lies_over(self, stretch, other):
-        return bool(set(self.over[stretch]) & set(self.under[other]))
+        return (stretch, other) in self.overs
 
     def fits(self, stretches):
-        return not any(self.lies_over(own, other) for own in stretches for other in stretches if own != other)
+        return not any((own, other) in self.overs for own in stretches for other in stretches if own != other)
 
     def joins(self, stretch, other):
         """The STRETCHES that go along the one, by a move, along the other."""

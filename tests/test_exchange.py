@@ -7,16 +7,14 @@ from neverbrush.brushing import brushes, do_brush
 from neverbrush.errors import CanNot, NoRoad
 from neverbrush.exchange import exchange_of, exchange_to, exchanged, exchanges, is_exchange, is_wall, newcomer
 from neverbrush.exchange import resolved, sides, wall_bag
-from neverbrush.floors import line, rectangle
 from neverbrush.forms import form_of, home
 from neverbrush.lots import greatest_lot, is_full, least_lot
 from neverbrush.roads import is_bent, is_road, turns
 from tests import plain
 from tests.checks import Checks
-from tests.made import DOUBLED_60, LONE, SQUARE, Figures, listed, listed_below, made_cities, made_table
+from tests.made import LONE, SIXTIES, SQUARE, Figures, listed, listed_below, made_cities, made_table
 from tests.plain_lots import LITTLE, town
 
-SIXTIES = [DOUBLED_60, rectangle(6, 10), line("E" * 59), line("BS0E" * 14 + "BBB")]
 FOUR = (("N", 1, "E"), ("W", 0, "SS"), ("W", 2, "ES"), ("W", 2, "S"))
 
 
@@ -58,7 +56,8 @@ class InSmallCities(Checks):
                     for thing in (list(step), (high, low, stretch), listed_below(step, 1), (low, high), [step],
                                   (low, high, stretch, 0), (low, high, (stretch[0] == 0, stretch[1])), None, ()):
                         self.assertIs(is_exchange(city, lot, thing), False)
-                    self.assertEqual(form_of(city, lot, low if low in lot else high), (stretch, 1 if low in lot else -1))
+                    road, sign = (low, 1) if low in lot else (high, -1)
+                    self.assertEqual(form_of(city, lot, road), (stretch, sign))
 
     def test_exchange_to(self):
         for city in LITTLE:

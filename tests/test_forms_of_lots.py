@@ -5,7 +5,6 @@ from itertools import product
 
 from neverbrush.bags import bag, table_of
 from neverbrush.errors import CanNot, NoRoad, Unfit
-from neverbrush.floors import line, rectangle
 from neverbrush.forms import counts_in, form_of, forms, high_roads, home, inner_table, is_forms, low_roads, stands
 from neverbrush.forms import told_back, why_out
 from neverbrush.lots import greatest_lot, is_full, least_lot
@@ -13,10 +12,9 @@ from neverbrush.roads import turns
 from neverbrush.stretches import goes, sum_along
 from tests import plain
 from tests.checks import Checks
-from tests.made import DOUBLED_60, LONE, SQUARE, Figures, listed, listed_below, made_cities, made_table
+from tests.made import LONE, SIXTIES, SQUARE, Figures, listed, listed_below, made_cities, made_table
 from tests.plain_lots import LITTLE, town
 
-SIXTIES = [DOUBLED_60, rectangle(6, 10), line("E" * 59), line("BS0E" * 14 + "BBB")]
 FOUR = (("N", 1, "E"), ("W", 0, "SS"), ("W", 2, "ES"), ("W", 2, "S"))
 
 
@@ -114,7 +112,8 @@ class Counts(Checks):
                 counts_in(city, lot, own), counts_in(city, lot, other))))
 
     def test_wrong_counts(self):
-        for counts in ((1, 2, 3), (1, 2, 3, 4, 5), (), None, 4, "1234", (1, 2, 3, True), (1, 2, None, 4), ((1, 2, 3, 4),)):
+        for counts in ((1, 2, 3), (1, 2, 3, 4, 5), (), None, 4, "1234", (1, 2, 3, True), (1, 2, None, 4),
+                       ((1, 2, 3, 4),)):
             self.unfit(told_back, SQUARE, FOUR, counts)
         self.unfit(told_back, SQUARE, FOUR[1:], (1, 2, 3))
         self.assertEqual(told_back(SQUARE, FOUR, (0, 0, 0, 0)), (0, 0, 0, 0))

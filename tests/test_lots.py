@@ -13,15 +13,9 @@ from neverbrush.lots import is_full, is_lot, least_lot, lots_by_size, put_to
 from neverbrush.roads import how_many_roads
 from tests import plain
 from tests.checks import Checks
-from tests.made import APART, DOUBLED_60, LONE, SQUARE, TWICE, Figures, listed, listed_below, made_cities, made_table
-from tests.made import parted_line
+from tests.made import APART, DOUBLED_60, LONE, LOTS_2000, LOTS_2016, ROADS_2000, ROADS_2001, SIXTIES, SQUARE, TWICE
+from tests.made import Figures, listed, listed_below, made_cities, made_table
 from tests.plain_lots import LITTLE, town
-
-JUST_2000_ROADS = parted_line([9, 8, 7, 6, 5, 3, 2, 2])
-OVER_2000_ROADS = line("0".join(["B" * 8, "B" * 7, "B" * 6, "B" * 5, "B" * 4, "B" * 2, "B", "E", ""]))
-JUST_2000_LOTS = line("E0E0E0000")
-OVER_2000_LOTS = line("BE0EE000")
-SIXTIES = [DOUBLED_60, rectangle(6, 10), line("E" * 59), line("S" * 59), line("0" * 59)]
 
 
 def low_in_turn(city, roads):
@@ -113,10 +107,10 @@ class PutTogether(Checks):
                     self.assertEqual(brushing_pair(listed(city), listed(roads)), pair)
 
     def test_brushing_pair_of_many(self):
-        roads = plain.bent_roads(JUST_2000_ROADS)
-        pair = brushing_pair(JUST_2000_ROADS, roads)
-        self.assertTrue(do_brush(JUST_2000_ROADS, *pair))
-        self.assertEqual(pair, low_in_turn(JUST_2000_ROADS, roads[:400]))
+        roads = plain.bent_roads(ROADS_2000)
+        pair = brushing_pair(ROADS_2000, roads)
+        self.assertTrue(do_brush(ROADS_2000, *pair))
+        self.assertEqual(pair, low_in_turn(ROADS_2000, roads[:400]))
         self.raises(CanNot, {}, brushing_pair, DOUBLED_60, least_lot(DOUBLED_60))
         self.raises(CanNot, {}, brushing_pair, DOUBLED_60, ())
 
@@ -142,14 +136,14 @@ class PutTogether(Checks):
                 self.assertEqual(goes_with(city, lot), own.more_for(lot))
 
     def test_goes_with_many(self):
-        self.assertEqual(how_many_roads(JUST_2000_ROADS), 2000)
-        self.assertEqual(goes_with(JUST_2000_ROADS, ()), tuple(plain.bent_roads(JUST_2000_ROADS)))
-        self.assertEqual(goes_with(JUST_2000_ROADS, least_lot(JUST_2000_ROADS)), ())
-        lot = greatest_lot(JUST_2000_ROADS)[1:]
-        both = finished(JUST_2000_ROADS, lot, "low") + finished(JUST_2000_ROADS, lot, "high")
-        self.assertEqual(goes_with(JUST_2000_ROADS, lot), tuple(sorted(set(both) - set(lot))))
-        self.assertEqual(how_many_roads(OVER_2000_ROADS), 2001)
-        for city in (OVER_2000_ROADS, DOUBLED_60):
+        self.assertEqual(how_many_roads(ROADS_2000), 2000)
+        self.assertEqual(goes_with(ROADS_2000, ()), tuple(plain.bent_roads(ROADS_2000)))
+        self.assertEqual(goes_with(ROADS_2000, least_lot(ROADS_2000)), ())
+        lot = greatest_lot(ROADS_2000)[1:]
+        both = finished(ROADS_2000, lot, "low") + finished(ROADS_2000, lot, "high")
+        self.assertEqual(goes_with(ROADS_2000, lot), tuple(sorted(set(both) - set(lot))))
+        self.assertEqual(how_many_roads(ROADS_2001), 2001)
+        for city in (ROADS_2001, DOUBLED_60):
             self.raises(TooMany, {}, goes_with, city, ())
             self.raises(TooMany, {}, goes_with, city, least_lot(city))
             self.unfit(goes_with, city, (("W", 0, ""),))
@@ -197,18 +191,18 @@ class Finished(Checks):
 
 class HowMany(Checks):
     def test_just_so_many(self):
-        self.assertEqual(how_many_full(JUST_2000_LOTS), 2000)
-        found = full_lots(JUST_2000_LOTS)
+        self.assertEqual(how_many_full(LOTS_2000), 2000)
+        found = full_lots(LOTS_2000)
         self.assertEqual(len(set(found)), 2000)
         self.assertEqual(found, tuple(sorted(found)))
-        self.assertTrue(all(is_full(JUST_2000_LOTS, lot) for lot in found[::97]))
-        sizes = lots_by_size(JUST_2000_LOTS)
-        self.assertEqual((sizes[0], sizes[1], sizes[-1]), (1, how_many_roads(JUST_2000_LOTS), 2000))
+        self.assertTrue(all(is_full(LOTS_2000, lot) for lot in found[::97]))
+        sizes = lots_by_size(LOTS_2000)
+        self.assertEqual((sizes[0], sizes[1], sizes[-1]), (1, how_many_roads(LOTS_2000), 2000))
         self.assertEqual(sum(many if k % 2 else -many for k, many in enumerate(sizes)), -1)
 
     def test_too_many(self):
         self.assertEqual(how_many_full(line("BE")) * how_many_full(line("EE")) * 8, 2016)
-        for city in SIXTIES + [OVER_2000_LOTS, rectangle(3, 3), line("B" * 6), line("0" * 10), line("EEEEEEE")]:
+        for city in SIXTIES + [LOTS_2016, rectangle(3, 3), line("B" * 6), line("0" * 10), line("EEEEEEE")]:
             for function in (full_lots, how_many_full, lots_by_size):
                 self.raises(TooMany, {}, function, city)
         self.assertEqual(how_many_full(line("0" * 9)), 1024)

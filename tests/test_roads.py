@@ -9,13 +9,10 @@ from neverbrush.floors import line, rectangle
 from neverbrush.roads import behind, by_bends, how_many_roads, is_bent, is_road, longest, passes, road_at
 from neverbrush.roads import road_number, road_of, roads, straight_roads, through, turns
 from tests import plain
-from tests.made import ALLEY, APART, DOUBLED_60, LONE, NAMED, SMALL, SQUARE, TWICE, Figures, listed
-from tests.made import made_cities, parted_line
+from tests.made import ALLEY, APART, DOUBLED_60, LONE, NAMED, ROADS_2000, ROADS_2001, SMALL, SQUARE, TWICE, Figures
+from tests.made import listed, made_cities
 
 MIDDLE = list(NAMED) + SMALL + made_cities(25, 7, 21)
-
-JUST_2000 = parted_line([9, 8, 7, 6, 5, 3, 2, 2])
-OVER_2000 = line("0".join(["B" * 8, "B" * 7, "B" * 6, "B" * 5, "B" * 4, "B" * 2, "B", "E", ""]))
 
 
 class OneRoad(unittest.TestCase):
@@ -137,17 +134,17 @@ class AllRoads(unittest.TestCase):
             through(SQUARE, True)
 
     def test_just_so_many(self):
-        self.assertEqual(how_many_roads(JUST_2000), 2000)
-        found = roads(JUST_2000)
-        self.assertEqual(found, plain.bent_roads(JUST_2000))
+        self.assertEqual(how_many_roads(ROADS_2000), 2000)
+        found = roads(ROADS_2000)
+        self.assertEqual(found, plain.bent_roads(ROADS_2000))
         found.clear()
-        self.assertEqual(len(roads(JUST_2000)), 2000)
-        self.assertEqual(how_many_roads(OVER_2000), 2001)
-        for city in (OVER_2000, DOUBLED_60, rectangle(6, 10)):
+        self.assertEqual(len(roads(ROADS_2000)), 2000)
+        self.assertEqual(how_many_roads(ROADS_2001), 2001)
+        for city in (ROADS_2001, DOUBLED_60, rectangle(6, 10)):
             with self.assertRaises(TooMany) as caught:
                 roads(city)
             self.assertEqual(vars(caught.exception), {})
-        self.assertEqual(road_at(OVER_2000, 2000), plain.bent_roads(OVER_2000)[2000])
+        self.assertEqual(road_at(ROADS_2001, 2000), plain.bent_roads(ROADS_2001)[2000])
 
     def test_edges(self):
         self.assertEqual(roads(LONE), [("N", 0, "E"), ("W", 0, "S")])

@@ -9,14 +9,11 @@ from neverbrush.stretches import crossings_of, goes, high_passes, how_many_stret
 from neverbrush.stretches import joined, lies_over, low_passes, over_pieces, parted, stretches, sum_along
 from neverbrush.stretches import under_pieces
 from tests import plain
-from tests.made import APART, DOUBLED_60, LONE, NAMED, SMALL, SQUARE, TWICE, Figures, listed, made_cities
-from tests.made import made_table, parted_line
+from tests.made import APART, DOUBLED_60, LONE, NAMED, SMALL, SQUARE, STRETCHES_2000, STRETCHES_2001, TWICE, Figures
+from tests.made import listed, made_cities, made_table
 
 MIDDLE = list(NAMED) + SMALL + made_cities(20, 7, 41)
 LITTLE = list(NAMED) + SMALL
-
-JUST_2000 = parted_line([9, 8, 7, 6, 5, 5, 1, 1, 1, 1])
-OVER_2000 = parted_line([9, 8, 7, 6, 5, 5, 1, 1, 1, 1, 1])
 
 
 class OneStretch(unittest.TestCase):
@@ -104,13 +101,13 @@ class AllStretches(unittest.TestCase):
                                  sum(1 for stretch in own if crossing in plain.crossings(city, stretch)))
 
     def test_just_so_many(self):
-        self.assertEqual(how_many_stretches(JUST_2000), 2000)
-        found = stretches(JUST_2000)
-        self.assertEqual(found, plain.all_stretches(JUST_2000))
+        self.assertEqual(how_many_stretches(STRETCHES_2000), 2000)
+        found = stretches(STRETCHES_2000)
+        self.assertEqual(found, plain.all_stretches(STRETCHES_2000))
         found.clear()
-        self.assertEqual(len(stretches(JUST_2000)), 2000)
-        self.assertEqual(how_many_stretches(OVER_2000), 2001)
-        for city in (OVER_2000, DOUBLED_60, rectangle(6, 10)):
+        self.assertEqual(len(stretches(STRETCHES_2000)), 2000)
+        self.assertEqual(how_many_stretches(STRETCHES_2001), 2001)
+        for city in (STRETCHES_2001, DOUBLED_60, rectangle(6, 10)):
             with self.assertRaises(TooMany) as caught:
                 stretches(city)
             self.assertEqual(vars(caught.exception), {})

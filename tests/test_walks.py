@@ -14,11 +14,9 @@ from neverbrush.walks import bag_then, by_far, exchanges_to, first_put, gone_and
 from neverbrush.walks import moments, put
 from tests import plain
 from tests.checks import Checks
-from tests.made import ALLEY, DOUBLED_60, LONE, NAMED, SMALL, SQUARE, TWICE, Figures, listed, listed_below
+from tests.made import ALLEY, DOUBLED_60, LONE, NAMED, SIXTIES, SMALL, SQUARE, TWICE, Figures, listed, listed_below
 from tests.made import made_cities, made_table
 from tests.plain_lots import LITTLE, town
-
-SIXTIES = [DOUBLED_60, rectangle(6, 10), line("E" * 59), line("BS0E" * 14 + "BBB")]
 
 
 def then(table, other, time):
