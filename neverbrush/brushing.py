@@ -2,7 +2,7 @@
 
 from neverbrush.errors import CanNot
 from neverbrush.fits import fit_plan, fit_road, fit_stretch, fit_word
-from neverbrush.pieces import crossings_along, going_along, high_of, is_brushing, low_of, over_of
+from neverbrush.pieces import crossings_along, going_along, is_brushing, over_of
 from neverbrush.pieces import runs_together, stretch_of_run, under_of, word_of_run
 from neverbrush.plans import SIDES, WAYS, beginnings_on, side_behind
 from neverbrush.routes import passes_of, turn_of, turning_once, ways_on, ways_to
@@ -72,15 +72,22 @@ def brushed_by(city, road):
     rows = passes_of(plan, fit_road(plan, road))
     on = ways_on(plan)
     everyone = sum([on["E"][first] + on["S"][first] for _, first in beginnings_on(plan)])
-    return (everyone - how_many_keep_off(plan, rows), how_often_brushed(plan, rows, on))
+    return (everyone - how_many_keep_off(plan, rows), how_often_brushed(rows, ways_to(plan), on))
 
 
-def how_often_brushed(plan, rows, on):
-    """How many pairs of a ROAD and a STRETCH there are along which it and the ROAD with these passes brush."""
-    to, total = ways_to(plan), 0
-    for found, side, way in ((low_of(rows), "N", "E"), (high_of(rows), "W", "S")):
-        for stretch in found:
-            total += to[side][stretch[0]] * on[way][crossings_along(plan, stretch)[-1]]
+def how_often_brushed(rows, to, on):
+    """How many pairs of a ROAD and a STRETCH there are along which it and the ROAD with the passes rows brush.
+
+    Others come to the beginning of such a STRETCH, and leave its end, as to and on, ways_to and ways_on, tell.
+    """
+    total = 0
+    for side, way, other_side, other_way in (("W", "S", "N", "E"), ("N", "E", "W", "S")):
+        come = 0
+        for crossing, own_side, own_way in rows:
+            if own_side == side:
+                come += to[other_side][crossing]
+            if own_way == way:
+                total += come * on[other_way][crossing]
     return total
 
 

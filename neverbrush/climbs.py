@@ -3,7 +3,7 @@
 from neverbrush.errors import Broken, CanNot, NoStretch, Unfit
 from neverbrush.fits import fit_plan, fit_stretch, stretch_from
 from neverbrush.fulls import fit_full, fit_two_full, hooks_of
-from neverbrush.joins import lot_above, lot_under, over_pieces_of, under_pieces_of
+from neverbrush.joins import greatest_with_above, least_with_under
 from neverbrush.kinds import as_row, is_just
 from neverbrush.ladders import ladder_of, lengths_from, longest_from
 from neverbrush.overs import Path, parts_over, ring_over
@@ -81,17 +81,15 @@ def is_why_not_below(city, lot, other, thing):
     return any([is_just(thing, stretch) for stretch in seams_not_under(plan, own, there)])
 
 
-def climb(city, lot, other):
-    """A CLIMB from lot that leads to other; CanNot() if there is none, ahead TooMany() if STRETCHES are not few.
+def climb_between(plan, lot, other):
+    """A CLIMB from lot that leads to other; None if there is none.
 
     A LOT that lies below other is led up within what lies below it by each RISE that is in UNDER of other.
     """
-    plan, at, there = fit_two_full(city, lot, other)
-    check_few_stretches(plan)
-    if seams_not_under(plan, at, there):
-        raise CanNot()
-    levels, steps = Levels(plan, there), []
-    while at != there:
+    if seams_not_under(plan, lot, other):
+        return None
+    levels, steps, at = Levels(plan, other), [], lot
+    while at != other:
         rows = Rows(plan, at)
         step = [own for own in rows.stretches_by(1) if levels.has_under(own)][0]
         steps.append(step)
@@ -99,11 +97,21 @@ def climb(city, lot, other):
     return tuple(steps)
 
 
-def is_climb(city, lot, other, thing):
+def climb(city, lot, other):
+    """A CLIMB from lot that leads to other; CanNot() if there is none, ahead TooMany() if STRETCHES are not few."""
+    plan, own, there = fit_two_full(city, lot, other)
+    check_few_stretches(plan)
+    steps = climb_between(plan, own, there)
+    if steps is None:
+        raise CanNot()
+    return steps
+
+
+def leads_to(plan, lot, other, thing):
     """Whether thing is a CLIMB from lot that leads to other."""
-    plan, at, there = fit_two_full(city, lot, other)
     if not isinstance(thing, tuple):
         return False
+    at = lot
     for own in thing:
         step = stretch_from(plan, own)
         if step is None or step != own:
@@ -111,7 +119,13 @@ def is_climb(city, lot, other, thing):
         at = led_on(plan, at, (step, 1))
         if at is None:
             return False
-    return at == there
+    return at == other
+
+
+def is_climb(city, lot, other, thing):
+    """Whether thing is a CLIMB from lot that leads to other."""
+    plan, own, there = fit_two_full(city, lot, other)
+    return leads_to(plan, own, there, thing)
 
 
 def meet(city, lot, other):
@@ -121,14 +135,14 @@ def meet(city, lot, other):
     """
     plan, own, there = fit_two_full(city, lot, other)
     check_few_stretches(plan)
-    return lot_above(plan, under_pieces_of(plan, both_by(plan, own, there, 1)))
+    return greatest_with_above(plan, both_by(plan, own, there, 1))
 
 
 def join(city, lot, other):
     """The least FULL LOT that is or lies above lot, and is or lies above other; TooMany() as told."""
     plan, own, there = fit_two_full(city, lot, other)
     check_few_stretches(plan)
-    return lot_under(plan, over_pieces_of(plan, both_by(plan, own, there, -1)))
+    return least_with_under(plan, both_by(plan, own, there, -1))
 
 
 def both_by(plan, lot, other, sign):

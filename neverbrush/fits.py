@@ -56,10 +56,16 @@ def is_crossing(plan, value):
     return is_number(value) and 0 <= value < plan.size
 
 
+def table_from(plan, value):
+    """The TABLE in a tuple, None if value is none."""
+    table = as_row_of(value, plan.size)
+    return table if table is not None and are_numbers_all(table) else None
+
+
 def fit_table(plan, value):
     """The TABLE value."""
-    table = as_row_of(value, plan.size)
-    if table is None or not are_numbers_all(table):
+    table = table_from(plan, value)
+    if table is None:
         raise Unfit()
     return table
 

@@ -58,13 +58,18 @@ def told_back(city, lot, counts):
     return table_by(plan, list(zip(own, numbers)))
 
 
-def stands(city, lot, table):
-    """Where table stands: "in", "wall" or "out"."""
-    _, counts = fit_counts(city, lot, table)
+def standing(counts):
+    """Where a TABLE with these counts stands: "in", "wall" or "out"."""
     least = min(counts)
     if least < 0:
         return "out"
     return "wall" if least == 0 else "in"
+
+
+def stands(city, lot, table):
+    """Where table stands: "in", "wall" or "out"."""
+    _, counts = fit_counts(city, lot, table)
+    return standing(counts)
 
 
 def why_out(city, lot, table):

@@ -47,6 +47,16 @@ def lot_above(plan, pieces):
     return lot_told(plan, pieces, ("S", "E"), ("W", "N"))
 
 
+def least_with_under(plan, stretches):
+    """The least FULL LOT whose UNDER has all of stretches; if these fit, the one whose SEAMS they are."""
+    return lot_under(plan, over_pieces_of(plan, stretches))
+
+
+def greatest_with_above(plan, stretches):
+    """The greatest FULL LOT whose ABOVE has all of stretches; if these fit, the one whose RISES they are."""
+    return lot_above(plan, under_pieces_of(plan, stretches))
+
+
 def lot_told(plan, pieces, ways, sides):
     """The FULL LOT of the bent ones of the ROADS that lead on a piece of a street.
 

@@ -1,32 +1,32 @@
-"""All FULL LOTS of a city, each with its steps up."""
+"""All FULL LOTS of a city, or all that have told ROADS, each with its steps up."""
 
 from neverbrush.errors import TooMany
-from neverbrush.fulls import hooks_of
+from neverbrush.fulls import finished_from, inner_of
 from neverbrush.rows import Rows
 
 MOST_LOTS = 2000
 
 
-def steps_up(plan, lot):
-    """The list of the pairs (stretch, FULL LOT) to which lot is led up, ROAD by ROAD."""
+def steps_up(plan, lot, kept):
+    """The list of the pairs (stretch, FULL LOT) to which lot is led up, ROAD by ROAD, but for the ROADS of kept."""
     rows = Rows(plan, lot)
     return [(rows.forms[number][0], rows.exchanged(number)) for number in range(plan.size)
-            if rows.forms[number][1] == 1]
+            if rows.forms[number][1] == 1 and lot[number] not in kept]
 
 
-def ladder_of(plan):
-    """By FULL LOT its steps up; TooMany() if the FULL LOTS are not few.
+def ladder_with(plan, kept):
+    """By FULL LOT that has all ROADS of the LOT kept its steps up by the others; TooMany() if they are not few.
 
-    All others lie above the least one. A city cut into lone crossings has a FULL LOT for each choice of a
-    turn at each of them, and each of these lies behind some of the city: so many it has at the least.
+    All of them lie above the one whose others are low. With some ROAD that is not kept, and with its newcomer,
+    there are others, and none has both: so each ROAD that is not kept makes them twice as many at the least.
     """
-    if 1 << plan.size > MOST_LOTS:
+    if 1 << (plan.size - len(kept)) > MOST_LOTS:
         raise TooMany()
-    least = hooks_of(plan, "S")
+    least = finished_from(plan, inner_of(plan, kept), 1)
     ladder, known, row = {}, {least: True}, [least]
     while row:
         lot = row.pop()
-        ladder[lot] = steps_up(plan, lot)
+        ladder[lot] = steps_up(plan, lot, kept)
         for _, above in ladder[lot]:
             if above not in known:
                 known[above] = True
@@ -34,6 +34,11 @@ def ladder_of(plan):
         if len(known) > MOST_LOTS:
             raise TooMany()
     return ladder
+
+
+def ladder_of(plan):
+    """By FULL LOT its steps up; TooMany() if the FULL LOTS are not few."""
+    return ladder_with(plan, ())
 
 
 def all_full(plan):

@@ -3,7 +3,8 @@
 from neverbrush.errors import CanNot
 from neverbrush.fits import fit_plan, fit_stretch
 from neverbrush.fulls import fit_full, fit_two_full
-from neverbrush.joins import fit_stretches, lot_above, lot_under, over_pieces_of, stretches_from, under_pieces_of
+from neverbrush.joins import fit_stretches, greatest_with_above, least_with_under, over_pieces_of, stretches_from
+from neverbrush.joins import under_pieces_of
 from neverbrush.ladders import all_full
 from neverbrush.overs import Path, is_fit, pair_over, parts_over
 from neverbrush.pieces import all_stretches, over_of, under_of
@@ -53,34 +54,38 @@ def fit_fitting(plan, value):
     return own
 
 
-def may_join(city, stretches):
-    """The set of the STRETCHES each of which alone may be put to stretches; TooMany() if STRETCHES are not few."""
-    plan = fit_plan(city)
-    own = fit_fitting(plan, stretches)
-    overs, unders = over_pieces_of(plan, own), under_pieces_of(plan, own)
+def ones_joining(plan, stretches):
+    """The list of the STRETCHES each of which alone may be put to stretches, which fit; TooMany() as may_join."""
+    overs, unders = over_pieces_of(plan, stretches), under_pieces_of(plan, stretches)
     found = []
     for stretch in all_stretches(plan):
         is_over = any([part in unders for part in over_of(plan, stretch)])
         if not is_over and not any([part in overs for part in under_of(plan, stretch)]):
             found.append(stretch)
-    return tuple(found)
+    return found
+
+
+def may_join(city, stretches):
+    """The set of the STRETCHES each of which alone may be put to stretches; TooMany() if STRETCHES are not few."""
+    plan = fit_plan(city)
+    return tuple(ones_joining(plan, fit_fitting(plan, stretches)))
 
 
 def lot_of_seams(city, stretches):
     """The FULL LOT whose SEAMS stretches is; CanNot() if it does not fit."""
     plan = fit_plan(city)
-    return lot_under(plan, over_pieces_of(plan, fit_fitting(plan, stretches)))
+    return least_with_under(plan, fit_fitting(plan, stretches))
 
 
 def lot_of_rises(city, stretches):
     """The FULL LOT whose RISES stretches is; CanNot() if it does not fit."""
     plan = fit_plan(city)
-    return lot_above(plan, under_pieces_of(plan, fit_fitting(plan, stretches)))
+    return greatest_with_above(plan, fit_fitting(plan, stretches))
 
 
 def next_on(plan, lot):
     """The FULL LOT whose SEAMS are the RISES of lot."""
-    return lot_under(plan, over_pieces_of(plan, Rows(plan, lot).stretches_by(1)))
+    return least_with_under(plan, Rows(plan, lot).stretches_by(1))
 
 
 def sent_on(city, lot):
@@ -92,7 +97,7 @@ def sent_on(city, lot):
 def sent_back(city, lot):
     """The FULL LOT whose RISES are the SEAMS of lot."""
     rows = fit_rows(city, lot)
-    return lot_above(rows.plan, under_pieces_of(rows.plan, rows.stretches_by(-1)))
+    return greatest_with_above(rows.plan, rows.stretches_by(-1))
 
 
 def ring_of(city, lot):

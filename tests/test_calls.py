@@ -4,9 +4,14 @@ import copy
 import unittest
 
 from neverbrush.errors import Unfit
-from tests.calls import CALLS, TEXTS, THINGS, WRONG
+from tests import calls, later_calls
 from tests.made import ODD_THINGS, deep, deep_list, listed, listed_below
 
+
+CALLS = calls.CALLS + later_calls.CALLS
+THINGS = calls.THINGS + later_calls.THINGS
+TEXTS = calls.TEXTS + later_calls.TEXTS
+WRONG = calls.WRONG | later_calls.WRONG
 
 GOOD_ODD_THINGS = (("is_stretch", (0, "")), ("is_some_bag", ()), ("is_lot", ()), ("is_closed", ()), ("is_fitting", ()))
 
@@ -59,7 +64,7 @@ class GoodCalls(unittest.TestCase):
             wanted = kinds(function(*good))
             self.assertEqual(kinds(function(*listed(good))), wanted)
             for k in range(len(good)):
-                for depth in range(5):
+                for depth in range(7):
                     with self.subTest(function.__name__, number=k, depth=depth):
                         own = good[:k] + [listed_below(good[k], depth)] + good[k + 1:]
                         self.assertEqual(kinds(function(*own)), wanted)

@@ -1,6 +1,9 @@
 """The examples of the document: what is returned, kinds too; what is raised, with its attributes."""
 
+import builtins
+import doctest
 import importlib
+import pathlib
 import unittest
 
 from tests.examples import EXAMPLES
@@ -40,7 +43,15 @@ class Examples(unittest.TestCase):
                 with self.subTest(promise=promise, typed=typed):
                     wanted = answered if answered.startswith("raises ") else repr(eval(answered))
                     self.assertEqual(answer(typed, names), wanted)
-        self.assertEqual(asked, 133)
+        self.assertEqual(asked, 188)
+
+    def test_readme(self):
+        path = pathlib.Path(__file__).resolve().parent.parent / "README.md"
+        told = doctest.testfile(str(path), module_relative=False)
+        # doctest leaves its last result there, for all tests behind it
+        vars(builtins).pop("_", None)
+        self.assertEqual(told.failed, 0)
+        self.assertGreater(told.attempted, 20)
 
 
 if __name__ == "__main__":

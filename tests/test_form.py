@@ -75,6 +75,30 @@ INTERFACE = {
               "is_over_ring(city,thing) climb_lengths(city,lot,other) longest_climb(city)",
     "counts": "by_seams(city) roads_by_lots(city) seams_by_lots(city) numbered_lot(city,number) lot_number(city,lot) "
               "drawn(city,figures) rectangle_lots(high,wide) rectangle_seams(high,wide)",
+    "lines": "roads_of_places(word,places) places_of(word,road) is_ordering(word,thing) lot_of_ordering(word,ordering) "
+             "ordering_of(word,lot) orderings_of(word,lot) tell_one(word,ordering,other) sorted_bag(word,table) "
+             "count_line(word) diagonal_of(many,road) road_of_diagonal(many,diagonal) triangles_of(many,lot) "
+             "lot_of_triangles(many,triangles)",
+    "cuts": "cut(city,crossing,way) kept_crossings(city,crossing,way) kept_table(city,crossing,way,table) "
+            "broken_road(city,crossing,way,road) broken_bag(city,crossing,way,bag) is_gone(city,crossing,way,stretch) "
+            "stretch_ahead(city,crossing,way,stretch) lot_behind(city,crossing,way,lot) "
+            "least_ahead(city,crossing,way,lot) greatest_ahead(city,crossing,way,lot) "
+            "lots_ahead(city,crossing,way,lot) beside(city,other) lot_of_both(city,other,lot,more) "
+            "lots_of_both(city,other,lot)",
+    "solid": "height(city,road) corner(city,lot) worth(city,table,prices) best_worth(city,prices) "
+             "is_best(city,lot,prices) best_lot(city,prices) edge(city,lot,road) is_corner(city,thing) "
+             "lot_at(city,table)",
+    "told": "told(city,lot) told_lots(city,lot) how_many_told(city,lot) let_go(city,lot,stretches) "
+            "with_seams(city,stretches) least_above(city,stretches) window(city,crossings) seen(city,lot,crossings)",
+    "moved": "exchanged_sides(city) turned_about(city) road_moved(city,road,way) stretch_moved(city,stretch,way) "
+             "table_moved(city,table,way) lot_moved(city,lot,way) renamed(city,numbers) are_numbers(city,thing) "
+             "renamed_back(numbers) are_alike(city,other) numbers_to(city,other) are_numbers_to(city,other,thing) "
+             "how_many_selves(city)",
+    "texts": "is_sheet(thing) sheet_text(sheet) read_sheet(text) city_text(city) read_city(text) "
+             "road_text(city,road) read_road(city,text) picture(cells,road) read_picture(text)",
+    "judge": "is_claim(thing) is_so(claim) paper_against(claim) is_paper_against(claim,thing) reason_for(claim) "
+             "is_reason_for(claim,thing) first_fallen(claims)",
+    "desk": "Desk(city)",
 }
 
 
@@ -203,6 +227,17 @@ class Form(unittest.TestCase):
                         self.assertIn(node.func.attr, METHODS | methods)
                         self.assertEqual(node.keywords, [])
 
+    def test_no_name_is_a_method_and_an_attribute_of_a_class(self):
+        for name, tree in TREES.items():
+            for node in tree.body:
+                if isinstance(node, ast.ClassDef):
+                    own = [row.name for row in node.body if isinstance(row, ast.FunctionDef)]
+                    stored = {row.attr for row in ast.walk(node)
+                              if isinstance(row, ast.Attribute) and isinstance(row.ctx, ast.Store)}
+                    with self.subTest(name, kind=node.name):
+                        self.assertEqual(len(own), len(set(own)))
+                        self.assertFalse(stored & (set(own) | METHODS))
+
     def test_no_sets_are_built(self):
         for name, tree in TREES.items():
             for node in ast.walk(tree):
@@ -236,6 +271,14 @@ class Interface(unittest.TestCase):
                         self.assertEqual(list(vars(made)), wanted)
                     else:
                         self.assertEqual(list(inspect.signature(getattr(own, name)).parameters), wanted)
+
+    def test_methods_stand_in_the_class_itself(self):
+        desk, = [node for node in TREES["desk"].body if isinstance(node, ast.ClassDef)]
+        self.assertEqual((desk.name, desk.bases), ("Desk", []))
+        told = {node.name: [own.arg for own in node.args.args] for node in desk.body if isinstance(node, ast.FunctionDef)}
+        for name, arguments in (("say", ["text"]), ("city", []), ("lot", []), ("table", []), ("undo", []), ("redo", []),
+                                ("twin", []), ("__eq__", ["other"]), ("__init__", ["city"])):
+            self.assertEqual(told[name], ["self"] + arguments)
 
     def test_package_binds_nothing_else(self):
         self.assertEqual([type(node) for node in TREES["__init__"].body], [ast.Expr])
