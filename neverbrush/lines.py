@@ -247,12 +247,12 @@ def triangles_of(many, lot):
 
 
 def fit_triples(plan, value):
-    """The set value of as many triples of numbers, each ascending, as a FULL LOT has triangles."""
+    """The row value of as many triples of numbers as a FULL LOT has triangles."""
     rows = as_row_of(value, plan.size + 1)
     if rows is None:
         raise Unfit()
     triples = [as_row_of(own, 3) for own in rows]
-    if not all([own is not None and are_numbers_all(own) and is_rising(own) for own in triples]):
+    if not all([own is not None and are_numbers_all(own) for own in triples]):
         raise Unfit()
     return tuple(triples)
 

@@ -46,7 +46,7 @@ def road_by_signs(plan, signs):
     """The triple of side, first crossing and moves that signs, one for each crossing, tell from their first one on."""
     first = [crossing for crossing in range(plan.size) if signs[crossing] != NO_ROAD][0]
     at, moves = first, ""
-    while at is not None and signs[at] != NO_ROAD:
+    while at is not None:
         way = "E" if signs[at] in "-L" else "S"
         at, moves = plan.nexts[way][at], moves + way
     return ("W" if signs[first] in "-7" else "N", first, moves)

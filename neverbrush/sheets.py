@@ -52,7 +52,7 @@ def text_of_sheet(sheet):
 
 def road_by_words(plan, told):
     """The ROAD of the words told, None if they tell none."""
-    if len(told) != 3 or told[0] not in SIDE_OF or any([sign not in "es" for sign in told[2]]):
+    if len(told) != 3 or told[0] not in SIDE_OF:
         return None
     return road_from(plan, (SIDE_OF[told[0]], number_of(told[1]), told[2].upper()))
 

@@ -52,8 +52,6 @@ def sets_with(plan, stretches):
     Each part of a set that fits fits, and each STRETCH that may be put to it makes one more.
     """
     others = ones_joining(plan, stretches)
-    if len(others) >= MOST_LOTS:
-        raise TooMany()
     apart = numbers_apart(plan, others)
     found, row = [], [(stretches, list(range(len(others))))]
     while row:

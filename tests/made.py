@@ -92,7 +92,7 @@ ROADS_2001 = line("0".join(["B" * 8, "B" * 7, "B" * 6, "B" * 5, "B" * 4, "B" * 2
 STRETCHES_2000 = parted_line([9, 8, 7, 6, 5, 5, 1, 1, 1, 1])
 STRETCHES_2001 = parted_line([9, 8, 7, 6, 5, 5, 1, 1, 1, 1, 1])
 LOTS_2000 = line("E0E0E0000")
-LOTS_2016 = line("BE0EE000")
+LOTS_2002 = line("BSSSSS")
 
 
 def listed(value):

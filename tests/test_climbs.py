@@ -15,7 +15,7 @@ from neverbrush.seams import rises, seams
 from neverbrush.stretches import how_many_stretches, lies_over, stretches
 from tests import plain
 from tests.checks import Checks
-from tests.made import ALLEY, DOUBLED_60, LONE, LOTS_2000, LOTS_2016, SIXTIES, SQUARE, STRETCHES_2000, STRETCHES_2001
+from tests.made import ALLEY, DOUBLED_60, LONE, LOTS_2000, LOTS_2002, SIXTIES, SQUARE, STRETCHES_2000, STRETCHES_2001
 from tests.made import TWICE, TWIN, Figures, listed, listed_below, made_cities, made_table
 from tests.plain_lots import LITTLE, town
 
@@ -284,7 +284,7 @@ class Climbs(Checks):
         self.assertEqual(climb_lengths(city, least, most), (10, 13))
         self.assertEqual(len(longest_climb(city)), 13)
         self.assertEqual(climb_lengths(city, least, least), (0, 0))
-        for city in (LOTS_2016, DOUBLED_60, rectangle(3, 3)):
+        for city in (LOTS_2002, DOUBLED_60, rectangle(3, 3)):
             least, most = least_lot(city), greatest_lot(city)
             self.raises(TooMany, {}, longest_climb, city)
             self.raises(TooMany, {}, climb_lengths, city, most, least)

@@ -13,7 +13,7 @@ from neverbrush.seams import seams
 from neverbrush.stretches import crossings_of, goes, is_stretch, over_pieces, stretches, under_pieces
 from tests import plain
 from tests.checks import Checks
-from tests.made import APART, DOUBLED_60, LONE, LOTS_2000, LOTS_2016, SIXTIES, SQUARE, STRETCHES_2000, STRETCHES_2001
+from tests.made import APART, DOUBLED_60, LONE, LOTS_2000, LOTS_2002, SIXTIES, SQUARE, STRETCHES_2000, STRETCHES_2001
 from tests.made import TWICE, Figures, listed, listed_below, made_table
 from tests.plain_lots import LITTLE, TRIED, subsets, town
 
@@ -307,7 +307,7 @@ class Closures(Checks):
 
     def test_how_many_closed_sets(self):
         self.assertEqual(len(closed_sets(LOTS_2000)), 2000)
-        for city in (LOTS_2016, DOUBLED_60, rectangle(3, 3)):
+        for city in (LOTS_2002, DOUBLED_60, rectangle(3, 3)):
             self.raises(TooMany, {}, closed_sets, city)
         self.assertEqual(closed_sets(LONE), [(), ((0, ""),)])
         self.assertEqual(len(closed_sets(APART)), 4)

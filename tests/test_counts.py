@@ -14,10 +14,10 @@ from neverbrush.seams import rises, seams
 from neverbrush.stretches import stretches
 from tests import plain
 from tests.checks import Checks
-from tests.made import APART, DOUBLED_60, LONE, LOTS_2000, LOTS_2016, NAMED, SQUARE, TWICE, listed
+from tests.made import APART, DOUBLED_60, LONE, LOTS_2000, LOTS_2002, NAMED, SQUARE, TWICE, listed
 from tests.plain_lots import LITTLE, town
 
-TOO_MANY = (LOTS_2016, DOUBLED_60, rectangle(3, 3), line("0" * 10), rectangle(6, 10))
+TOO_MANY = (LOTS_2002, DOUBLED_60, rectangle(3, 3), line("0" * 10), rectangle(6, 10))
 
 
 def tableaux(high, wide):

@@ -15,7 +15,7 @@ from neverbrush.seams import rises, seams
 from neverbrush.stretches import is_stretch
 from tests import plain
 from tests.checks import Checks
-from tests.made import ALLEY, DOUBLED_60, LONE, LOTS_2000, LOTS_2016, NAMED, SIXTIES, SQUARE, TWICE, TWIN, Figures
+from tests.made import ALLEY, DOUBLED_60, LONE, LOTS_2000, LOTS_2002, NAMED, SIXTIES, SQUARE, TWICE, TWIN, Figures
 from tests.made import listed, made_table
 from tests.plain_lots import FOURS, LITTLE, town
 
@@ -250,9 +250,9 @@ class Lots(Checks):
             lot = least_lot(there)
             found = lots_ahead(LOTS_2000, 0, way, lot)
             self.assertEqual(found, [full for full in full_lots(LOTS_2000) if lot_behind(LOTS_2000, 0, way, full) == lot])
-            there = cut(LOTS_2016, 0, way)
-            self.raises(TooMany, {}, lots_ahead, LOTS_2016, 0, way, least_lot(there))
-            self.unfit(lots_ahead, LOTS_2016, 0, way, least_lot(there)[1:])
+            there = cut(LOTS_2002, 0, way)
+            self.raises(TooMany, {}, lots_ahead, LOTS_2002, 0, way, least_lot(there))
+            self.unfit(lots_ahead, LOTS_2002, 0, way, least_lot(there)[1:])
         total = sum(len(lots_ahead(SQUARE, 2, "E", lot)) for lot in full_lots(cut(SQUARE, 2, "E")))
         self.assertEqual(total, 42)
 

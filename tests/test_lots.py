@@ -13,7 +13,7 @@ from neverbrush.lots import is_full, is_lot, least_lot, lots_by_size, put_to
 from neverbrush.roads import how_many_roads
 from tests import plain
 from tests.checks import Checks
-from tests.made import APART, DOUBLED_60, LONE, LOTS_2000, LOTS_2016, ROADS_2000, ROADS_2001, SIXTIES, SQUARE, TWICE
+from tests.made import APART, DOUBLED_60, LONE, LOTS_2000, LOTS_2002, ROADS_2000, ROADS_2001, SIXTIES, SQUARE, TWICE
 from tests.made import Figures, listed, listed_below, made_cities, made_table
 from tests.plain_lots import LITTLE, town
 
@@ -202,7 +202,7 @@ class HowMany(Checks):
 
     def test_too_many(self):
         self.assertEqual(how_many_full(line("BE")) * how_many_full(line("EE")) * 8, 2016)
-        for city in SIXTIES + [LOTS_2016, rectangle(3, 3), line("B" * 6), line("0" * 10), line("EEEEEEE")]:
+        for city in SIXTIES + [LOTS_2002, rectangle(3, 3), line("B" * 6), line("0" * 10), line("EEEEEEE")]:
             for function in (full_lots, how_many_full, lots_by_size):
                 self.raises(TooMany, {}, function, city)
         self.assertEqual(how_many_full(line("0" * 9)), 1024)

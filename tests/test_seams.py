@@ -13,7 +13,7 @@ from neverbrush.seams import sent_back, sent_on, times_sent, unfit_pair, why_ove
 from neverbrush.stretches import lies_over, over_pieces, stretches, under_pieces
 from tests import plain
 from tests.checks import Checks
-from tests.made import ALLEY, APART, DOUBLED_60, LONE, LOTS_2000, LOTS_2016, SIXTIES, SQUARE, STRETCHES_2000
+from tests.made import ALLEY, APART, DOUBLED_60, LONE, LOTS_2000, LOTS_2002, SIXTIES, SQUARE, STRETCHES_2000
 from tests.made import STRETCHES_2001, Figures, listed, listed_below, made_cities, made_table
 from tests.plain_lots import LITTLE, TRIED, subsets, town
 
@@ -235,7 +235,7 @@ class Rings(Checks):
         self.assertEqual(len(ring_of(line("E" * 59), least_lot(line("E" * 59)))), 2)
         self.assertEqual(times_sent(DOUBLED_60, least_lot(DOUBLED_60), greatest_lot(DOUBLED_60)), 1)
         self.assertEqual(len(fitting_sets(LOTS_2000)), 2000)
-        for city in (LOTS_2016, DOUBLED_60, rectangle(3, 3)):
+        for city in (LOTS_2002, DOUBLED_60, rectangle(3, 3)):
             self.raises(TooMany, {}, fitting_sets, city)
 
     def test_errors(self):

@@ -12,7 +12,7 @@ from neverbrush.seams import lot_of_seams, rises, seams
 from neverbrush.told import how_many_told, least_above, let_go, seen, told, told_lots, window, with_seams
 from tests import plain
 from tests.checks import Checks
-from tests.made import APART, DOUBLED_60, LONE, LOTS_2000, LOTS_2016, SIXTIES, SQUARE, STRETCHES_2000, STRETCHES_2001
+from tests.made import APART, DOUBLED_60, LONE, LOTS_2000, LOTS_2002, SIXTIES, SQUARE, STRETCHES_2000, STRETCHES_2001
 from tests.made import TWICE, Figures, listed, listed_below, made_table
 from tests.plain_lots import LITTLE, subsets, town
 
@@ -139,7 +139,7 @@ class ToldRoads(Checks):
         self.assertEqual(told_lots(LOTS_2000, ()), list(full_lots(LOTS_2000)))
         self.assertEqual(how_many_told(LOTS_2000, ()), 2000)
         for function in (told_lots, how_many_told):
-            self.raises(TooMany, {}, function, LOTS_2016, ())
+            self.raises(TooMany, {}, function, LOTS_2002, ())
             self.raises(TooMany, {}, function, DOUBLED_60, ())
             self.unfit(function, DOUBLED_60, (("W", 0, "E" * 60),))
         far = line("B" * 49)
@@ -149,8 +149,8 @@ class ToldRoads(Checks):
         found = told_lots(city, held)
         self.assertEqual(len(found), 2000)
         self.assertEqual(found[7], tuple(sorted(full_lots(LOTS_2000)[7] + held)))
-        city = beside(LOTS_2016, line("B" * 50))
-        held = tuple(road for road in least_lot(city) if road[1] >= 9)
+        city = beside(LOTS_2002, line("B" * 50))
+        held = tuple(road for road in least_lot(city) if road[1] >= 7)
         self.raises(TooMany, {}, how_many_told, city, held)
         self.assertEqual(set(held), set(told(city, held)[0]) & set(told(city, held)[1]))
 
@@ -200,7 +200,7 @@ class ToldSeams(Checks):
 
     def test_just_so_many(self):
         self.assertEqual(with_seams(LOTS_2000, ()), list(full_lots(LOTS_2000)))
-        self.raises(TooMany, {}, with_seams, LOTS_2016, ())
+        self.raises(TooMany, {}, with_seams, LOTS_2002, ())
         for city in (STRETCHES_2000, STRETCHES_2001):
             most = greatest_lot(city)
             self.raises(TooMany, {}, with_seams, city, ())
