@@ -130,7 +130,10 @@ def free_places(waits):
 
 
 def ordering_of(word, lot):
-    """The ORDERING with the fewest inversions that tells lot: of the places that may come next always the least."""
+    """The ORDERING with the fewest inversions that tells lot.
+
+    Its inversions are those that all others have, too: so of the places that may come next it has the least.
+    """
     plan = fit_line(word)
     order = Order(plan, fit_full(plan, lot))
     found, waits = [], order.waits
